@@ -1,0 +1,1 @@
+"""Hiddenrank: rules of unknown strength, known by the outcomes of requests."""
