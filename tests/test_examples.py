@@ -21,7 +21,7 @@ def examples():
 class Examples(unittest.TestCase):
     def test_every_example(self):
         found = list(examples())
-        self.assertEqual(len(found), 23)
+        self.assertEqual(len(found), 41)
         for statements, expected in found:
             with self.subTest("\n".join(statements)):
                 names = {}

@@ -20,9 +20,24 @@ INTERFACE = {
     "matching": {"check_condition": ["schema", "condition"], "matches": ["schema", "condition", "request"],
                  "matching": ["schema", "condition"], "first_difference": ["schema", "one", "other"],
                  "first_exception": ["schema", "one", "other"]},
+    "orders": {"check_problem": ["size", "pairs", "reports"], "agrees": ["size", "pairs", "reports", "order"],
+               "find_order": ["size", "pairs", "reports"], "layers": ["size", "pairs", "reports"],
+               "largest_deadlock": ["size", "pairs", "reports"]},
+    "deadlocks": {"is_deadlock": ["size", "pairs", "reports", "deadlock"],
+                  "is_irreducible": ["size", "pairs", "reports", "deadlock"],
+                  "shrink": ["size", "pairs", "reports", "deadlock"],
+                  "possible_first": ["size", "pairs", "reports", "slots"],
+                  "compare_slots": ["size", "pairs", "reports", "one", "other"]},
+    "layouts": {"Layout": ["slots"]},
 }
-METHODS = {("schemas", "Schema"): {"fields": [], "values_of": ["field"], "size": [], "request_of": ["number"],
-                                   "number_of": ["request"], "__eq__": ["other"], "__len__": [], "__repr__": []}}
+METHODS = {
+    ("schemas", "Schema"): {"fields": [], "values_of": ["field"], "size": [], "request_of": ["number"],
+                            "number_of": ["request"], "__eq__": ["other"], "__len__": [], "__repr__": []},
+    ("layouts", "Layout"): {"slots": [], "names": [], "place_of": ["name"], "added": ["name"], "dropped": ["name"],
+                            "moved": ["name"], "beside": ["name", "other", "behind"], "swapped": ["name", "other"],
+                            "speakers": ["some"], "__eq__": ["other"], "__len__": [], "__repr__": []},
+}
+DEFAULTS = {("layouts", "Layout", "__init__"): {"slots": ()}, ("layouts", "Layout", "beside"): {"behind": False}}
 
 
 class Interface(unittest.TestCase):
@@ -39,6 +54,13 @@ class Interface(unittest.TestCase):
             members = vars(getattr(importlib.import_module(f"hiddenrank.{module}"), owner))
             for name, parameters in methods.items():
                 self.assertEqual(list(inspect.signature(members[name]).parameters), ["self"] + parameters, name)
+
+    def test_default_values(self):
+        for (module, owner, name), expected in DEFAULTS.items():
+            member = vars(getattr(importlib.import_module(f"hiddenrank.{module}"), owner))[name]
+            parameters = inspect.signature(member).parameters.values()
+            found = {one.name: one.default for one in parameters if one.default is not one.empty}
+            self.assertEqual(found, expected, name)
 
 
 class Language(unittest.TestCase):
